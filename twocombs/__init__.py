@@ -1,0 +1,1 @@
+"""A bar that climbs between two combs."""
