@@ -1,11 +1,14 @@
 """What several tests share: sample values, slow answers by definition, and how an error is asked for."""
 
+from math import lcm
+
 from twocombs.errors import CombError
 
 GREAT = 10 ** 40 - 1  # the greatest integer of 40 digits
 WIDE = ((10, [0, 3]), (10, [0]))
 NARROW = ((3, [0]), (5, [0]))
 FULL = (24, list(range(24)))
+FULL_23 = (23, list(range(23)))
 
 
 class Odd:
@@ -120,6 +123,23 @@ def held_states(device, hand):
             if catches_at(ground, height) or catches_at(grip, height - hand)]
 
 
+def common(device):
+    """Return the common pitch of a device."""
+    return lcm(device[0][0], device[1][0])
+
+
+def held_at(device, hand):
+    """Return the heights within a common pitch that are held at a hand."""
+    return [height for height in range(common(device))
+            if catches_at(device[0], height) or catches_at(device[1], height - hand)]
+
+
+def smaller_devices():
+    """Return the samples and some more, those with hundreds of held heights left out."""
+    devices = [device for device in sample_devices() if len(held_at(device, 0)) <= 100]
+    return devices + [((4, [0, 1]), (6, [2, 5])), ((8, [0, 3]), (7, [6])), ((9, [4]), (6, [0, 1, 2]))]
+
+
 def stepped(device, state, move):
     """Return the state behind a move by steps of 1: a comb that catches has the bar, or the bar sinks to it."""
     ground, grip = device
@@ -132,6 +152,62 @@ def stepped(device, state, move):
             height -= 0 if catches_at(ground, height) else 1
             hand -= 1
     return height, hand
+
+
+def leaped(device, state, move):
+    """Return the state behind a move: steps of 1 while there can be slack, and then the rest at once."""
+    if abs(move) <= 24:
+        return stepped(device, state, move)
+    rest = abs(move) - 24
+    if move > 0:
+        height, hand = stepped(device, state, 24)
+        return height + rest, hand + rest
+    height, hand = stepped(device, state, -24)
+    return height, hand - rest
+
+
+def once(device, state, moves):
+    """Return the state behind moves that are done once, move by move."""
+    for move in moves:
+        state = leaped(device, state, move)
+    return state
+
+
+def repeated(device, state, moves, times):
+    """Return the states behind 0, 1, 2 times and so on, up to so many, one time behind the other."""
+    states = [state]
+    for _ in range(times):
+        states.append(once(device, states[-1], moves))
+    return states
+
+
+def start_table(device, moves):
+    """Return for each start of a device, as (ground remainder, grip remainder), where moves lead it and their rise."""
+    (pitch, teeth), (width, marks) = device
+    table = {}
+    for above in range(pitch):
+        for lift in range(width):
+            if above in teeth or lift in marks:
+                height, hand = once(device, (above, above - lift), moves)
+                table[above, lift] = ((height % pitch, (height - hand) % width), height - above)
+    return table
+
+
+def power_rise(table, start, times):
+    """Return the rise of so many times from a start: the table is doubled again and again."""
+    rise = 0
+    while times:
+        if times % 2:
+            start, more = table[start]
+            rise += more
+        table = {one: (table[two][0], more + table[two][1]) for one, (two, more) in table.items()}
+        times //= 2
+    return rise
+
+
+def start_of(device, state):
+    """Return the start of a state."""
+    return state[0] % device[0][0], (state[0] - state[1]) % device[1][0]
 
 
 def raised(call, *arguments, **named):

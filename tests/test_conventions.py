@@ -7,7 +7,10 @@ import unittest
 
 from tests.helpers import FULL, NARROW, WIDE
 from twocombs.combs import plain_comb
+from twocombs.means import held_heights, lasting_heights, mean_rise, stuck_heights
 from twocombs.moving import joined_moves, mirror_device, moved_state, state_trail
+from twocombs.rounds import far_state, first_time
+from twocombs.spans import climbing_span, span_for, span_rise, span_rows
 
 INTERFACE = {
     "combs": {
@@ -19,6 +22,19 @@ INTERFACE = {
         "is_state": ["device", "value"], "moved_state": ["device", "state", "moves"],
         "state_trail": ["device", "state", "moves"], "joined_moves": ["moves"], "mirror_device": ["device"],
         "mirror_state": ["state"],
+    },
+    "rounds": {
+        "far_state": ["device", "state", "moves", "times"], "first_time": ["device", "state", "moves", "height"],
+        "round_cycle": ["device", "state", "moves"],
+    },
+    "means": {
+        "mean_rise": ["device", "hand", "moves"], "held_heights": ["device", "hand"],
+        "stuck_heights": ["device", "hand", "moves"], "lasting_heights": ["device", "hand", "moves"],
+        "settling_rounds": ["device", "hand", "moves"],
+    },
+    "spans": {
+        "span_rise": ["device", "hand", "span"], "climbing_span": ["device", "hand"], "span_rows": ["device", "hand"],
+        "span_for": ["device", "hand", "top", "bottom"],
     },
 }
 
@@ -38,6 +54,18 @@ CALLS = {
     "joined_moves": [([3, 4, -2],), [7, -2]],
     "mirror_device": [(((3, [0]), (5, [0, 1])),), ((5, [0, 1]), (3, [0]))],
     "mirror_state": [((9, 2),), (7, -2)],
+    "far_state": [(((3, [0]), (5, [0])), (0, 0), [10, -10], 3), (24, 0)],
+    "first_time": [(((3, [0]), (5, [0])), (0, 0), [10, -10], 100), 14],
+    "round_cycle": [(((3, [0]), (5, [0])), (3, 0), [7, -7]), (1, 3, 15)],
+    "mean_rise": [(((3, [0]), (5, [0])), 0, [10, -10]), (15, 2)],
+    "held_heights": [(((3, [0]), (5, [0])), 1), [0, 1, 3, 6, 9, 11, 12]],
+    "stuck_heights": [(((3, [0]), (5, [0])), 0, [3, -3]), [3, 6, 9, 12]],
+    "lasting_heights": [(((3, [0]), (5, [0])), 0, [7, -7]), [0, 6, 12]],
+    "settling_rounds": [(((3, [0]), (5, [0])), 0, [6, -6]), 3],
+    "span_rise": [(((3, [0]), (5, [0])), 0, 10), (15, 2)],
+    "climbing_span": [(((3, [0]), (5, [0])), 0), 7],
+    "span_rows": [(((10, [0, 3]), (10, [0])), 0), [(10, 10, 1), (20, 20, 1)]],
+    "span_for": [(((3, [0]), (5, [0])), 0, 15, 2), 10],
 }
 
 
@@ -134,6 +162,33 @@ class ConventionsTest(unittest.TestCase):
         trail.clear()
         self.assertEqual(state_trail(NARROW, (0, 0), moves), [(7, 7), (6, 0)])
         self.assertIsNot(state_trail(NARROW, (0, 0), []), state_trail(NARROW, (0, 0), []))
+
+    def test_heights_and_rows_are_new_lists(self):
+        for call, given in ((held_heights, (NARROW, 0)), (stuck_heights, (NARROW, 0, [3, -3])),
+                            (stuck_heights, (NARROW, 0, [7, -7])), (lasting_heights, (NARROW, 0, [7, -7])),
+                            (lasting_heights, (((1, [0]), (1, [0])), 0, [1, -1])), (span_rows, (NARROW, 0))):
+            told = call(*given)
+            expected = list(told)
+            self.assertIsNot(call(*given), told)
+            told.append(99)
+            told[0] = None
+            self.assertEqual(call(*given), expected)
+
+    def test_changed_arguments_change_no_earlier_answer(self):
+        teeth, moves = [0], [10, -10]
+        device = ((3, teeth), (5, [0]))
+        told = [held_heights(device, 0), lasting_heights(device, 0, moves), span_rows(device, 0)]
+        teeth.append(1)
+        moves.append(4)
+        self.assertEqual(told, [held_heights(NARROW, 0), lasting_heights(NARROW, 0, [10, -10]), span_rows(NARROW, 0)])
+
+    def test_answers_of_rounds_and_spans_are_taken_by_other_functions(self):
+        state = far_state(NARROW, (0, 0), [7, -7, 2], 10 ** 40)
+        self.assertEqual(first_time(NARROW, state, [7, -7, 2], state[0]), 0)
+        self.assertEqual(moved_state(NARROW, state, [7, -7, 2]), far_state(NARROW, (0, 0), [7, -7, 2], 10 ** 40 + 1))
+        self.assertEqual(span_for(NARROW, 0, *span_rise(NARROW, 0, climbing_span(NARROW, 0))), climbing_span(NARROW, 0))
+        self.assertEqual(span_for(NARROW, 0, *mean_rise(NARROW, 0, [10, -10])), 10)
+        self.assertEqual(held_heights(mirror_device(WIDE), 4), held_heights((WIDE[1], WIDE[0]), 4))
 
     def test_answers_are_taken_by_other_functions(self):
         device = mirror_device((plain_comb(FULL), plain_comb((24, [3, 15]))))

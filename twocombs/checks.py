@@ -22,3 +22,10 @@ def check_whole(value, name):
     """Raise InvalidNumber unless the argument with this name is an integer."""
     if not is_whole(value):
         raise InvalidNumber(f"{name} is no integer")
+
+
+def check_least(value, least, name):
+    """Raise InvalidNumber unless the argument with this name is an integer from the least one on."""
+    check_whole(value, name)
+    if value < least:
+        raise InvalidNumber(f"{name} is below {least}")

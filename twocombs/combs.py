@@ -4,6 +4,8 @@ A comb is a tuple (pitch, teeth), a device a tuple (ground, grip) of two combs.
 The functions of the first half are for arguments that have been checked already.
 """
 
+from math import lcm
+
 from twocombs.checks import check_whole, is_pair, is_whole
 from twocombs.errors import InvalidComb, InvalidDevice, InvalidNumber
 
@@ -50,6 +52,12 @@ def copied_comb(comb):
     """Return an equal comb with a list of its own."""
     pitch, teeth = comb
     return pitch, list(teeth)
+
+
+def common_pitch(device):
+    """Return the least common multiple of both pitches."""
+    ground, grip = device
+    return lcm(ground[0], grip[0])
 
 
 def is_pitch(value):

@@ -1,0 +1,155 @@
+"""Wrong arguments of parts 3 to 5: the class of each error, its field, and which argument is told [3], [12] to [15]."""
+
+import copy
+import itertools
+import unittest
+
+from tests import helpers
+from tests.helpers import FULL, GREAT, NARROW, NO_NUMBERS, WIDE, Odd, raised
+from twocombs.errors import CombError, Impossible, InvalidDevice, InvalidMoves, InvalidNumber, InvalidState
+from twocombs.means import held_heights, lasting_heights, mean_rise, settling_rounds, stuck_heights
+from twocombs.rounds import far_state, first_time, round_cycle
+from twocombs.spans import climbing_span, span_for, span_rise, span_rows
+
+FUNCTIONS = {
+    far_state: ["device", "state", "moves", "times"],
+    first_time: ["device", "state", "moves", "height"],
+    round_cycle: ["device", "state", "moves"],
+    mean_rise: ["device", "hand", "round"],
+    held_heights: ["device", "hand"],
+    stuck_heights: ["device", "hand", "round"],
+    lasting_heights: ["device", "hand", "round"],
+    settling_rounds: ["device", "hand", "round"],
+    span_rise: ["device", "hand", "span"],
+    climbing_span: ["device", "hand"],
+    span_rows: ["device", "hand"],
+    span_for: ["device", "hand", "top", "bottom"],
+}
+RIGHT = {"device": WIDE, "state": (3, 0), "moves": [2, -3], "round": [7, -7], "hand": -4, "times": 3, "height": 9,
+         "span": 7, "top": 3, "bottom": 2}
+
+NUMBERS = [(value, InvalidNumber, {}) for value in NO_NUMBERS]
+BELOW_ONE = [(value, InvalidNumber, {}) for value in (0, -1, -2, -GREAT)]
+MOVES = [(value, InvalidMoves, {"index": index}) for value, index in helpers.NO_MOVES]
+NO_ROUNDS = [[], [1], [-1], [7, -6], [7, -8], [GREAT], [GREAT, -GREAT, 1], [1] * 40, [1, -1] * 19 + [1]]
+
+# For each argument its wrong values, each with the error that it raises and the fields of this error.
+WRONG = {
+    "device": [(value, InvalidDevice, {"index": index}) for value, index in helpers.NO_DEVICES]
+    + [((value, FULL), InvalidDevice, {"index": 0}) for value, _ in helpers.NO_COMBS]
+    + [((FULL, value), InvalidDevice, {"index": 1}) for value, _ in helpers.NO_COMBS]
+    + [((value, value), InvalidDevice, {"index": 0}) for value, _ in helpers.NO_COMBS],
+    "state": [(value, InvalidState, {}) for value in helpers.NO_WHOLE_PAIRS]
+    + [(value, InvalidState, {}) for value in ((1, 0), (2, 0), (14, 1), (-1, 0), (0, 0.0), (GREAT - 1, 0), [3, 0])],
+    "moves": MOVES,
+    "round": MOVES + [(value, Impossible, {}) for value in NO_ROUNDS],
+    "hand": NUMBERS,
+    "times": NUMBERS + BELOW_ONE[1:],
+    "height": NUMBERS,
+    "span": NUMBERS + BELOW_ONE,
+    "top": NUMBERS,
+    "bottom": NUMBERS + BELOW_ONE,
+}
+# A few of them for each argument, of all errors that it can raise, to be put one behind the other.
+FEW = {
+    "device": [(None, InvalidDevice, {"index": None}), ((FULL, (25, [0])), InvalidDevice, {"index": 1}),
+               ([FULL, FULL], InvalidDevice, {"index": None}), ((None, None), InvalidDevice, {"index": 0})],
+    "state": [(None, InvalidState, {}), ((5, 0), InvalidState, {})],
+    "moves": [(None, InvalidMoves, {"index": None}), ([3, -3, 0], InvalidMoves, {"index": 2})],
+    "round": [((7, -7), InvalidMoves, {"index": None}), ([7, -6, 0], InvalidMoves, {"index": 2}),
+              ([1] * 41, InvalidMoves, {"index": None}), ([], Impossible, {}), ([7, -6], Impossible, {})],
+    "hand": [(None, InvalidNumber, {}), (True, InvalidNumber, {})],
+    "times": [(None, InvalidNumber, {}), (-1, InvalidNumber, {})],
+    "height": [(None, InvalidNumber, {}), (False, InvalidNumber, {})],
+    "span": [(None, InvalidNumber, {}), (0, InvalidNumber, {})],
+    "top": [(None, InvalidNumber, {}), (1.0, InvalidNumber, {})],
+    "bottom": [(None, InvalidNumber, {}), (0, InvalidNumber, {})],
+}
+
+
+class WrongTest(unittest.TestCase):
+    def assert_raised(self, call, given, kind, fields, note):
+        error = raised(call, *given)
+        self.assertIs(type(error), kind, note)
+        self.assertEqual(vars(error), fields, note)
+        self.assertEqual(kind.__bases__, (CombError,))
+
+    def test_each_wrong_argument(self):
+        for call, arguments in FUNCTIONS.items():
+            right = [RIGHT[name] for name in arguments]
+            for at, name in enumerate(arguments):
+                for number, (value, kind, fields) in enumerate(WRONG[name]):
+                    given = right[:at] + [value] + right[at + 1:]
+                    self.assert_raised(call, given, kind, fields, (call.__name__, name, number))
+
+    def test_each_wrong_argument_by_name(self):
+        for call, arguments in FUNCTIONS.items():
+            told = call.__code__.co_varnames[:call.__code__.co_argcount]
+            for at, name in enumerate(arguments):
+                for value, kind, fields in FEW[name]:
+                    given = {told[place]: RIGHT[other] for place, other in enumerate(arguments)}
+                    given[told[at]] = value
+                    error = raised(call, **given)
+                    self.assertEqual((type(error), vars(error)), (kind, fields), (call.__name__, name))
+
+    def test_the_first_wrong_argument_is_told(self):
+        for call, arguments in FUNCTIONS.items():
+            choices = [[(RIGHT[name], None, None)] + FEW[name] for name in arguments]
+            for rows in itertools.product(*choices):
+                wrong = [(kind, fields) for _, kind, fields in rows if kind is not None]
+                given = [value for value, _, _ in rows]
+                if wrong:
+                    self.assert_raised(call, given, *wrong[0], (call.__name__, given))
+                else:
+                    self.assertIsNone(raised(call, *given), call.__name__)
+
+    def test_the_first_wrong_argument_is_told_ahead_of_any_value(self):
+        for call, arguments in FUNCTIONS.items():
+            right = [RIGHT[name] for name in arguments]
+            for at, name in enumerate(arguments):
+                for value, kind, fields in FEW[name]:
+                    given = right[:at] + [value] + [Odd() for _ in arguments[at + 1:]]
+                    self.assert_raised(call, given, kind, fields, (call.__name__, name))
+
+    def test_what_is_no_round_may_be_done_several_times(self):
+        for moves in NO_ROUNDS:
+            for call, others in ((far_state, [5]), (first_time, [5]), (round_cycle, [])):
+                self.assertIsNone(raised(call, WIDE, (3, 0), moves, *others))
+
+    def test_no_round_is_told_behind_all_others(self):
+        for call in (mean_rise, stuck_heights, lasting_heights, settling_rounds):
+            self.assertIs(type(raised(call, NARROW, 0, [7, -6])), Impossible)
+            self.assertIs(type(raised(call, NARROW, 0, [])), Impossible)
+            self.assertIs(type(raised(call, NARROW, None, [])), InvalidNumber)
+            self.assertIs(type(raised(call, (NARROW[0], None), 0, [])), InvalidDevice)
+            self.assertIs(type(raised(call, NARROW, 0, ())), InvalidMoves)
+            self.assertIs(type(raised(call, NARROW, 0, (7, -7))), InvalidMoves)
+            self.assertEqual(raised(call, NARROW, 0, [7, -6, True]).index, 2)
+            self.assertIsNone(raised(call, NARROW, 0, [1, -1] * 20))
+
+    def test_arguments_are_as_they_were_behind_errors(self):
+        device, moves = ((10, [0, 3]), (10, [0])), [7, -6]
+        for call in (mean_rise, stuck_heights, lasting_heights, settling_rounds):
+            before = copy.deepcopy((device, moves))
+            self.assertIs(type(raised(call, device, 0, moves)), Impossible)
+            self.assertEqual((device, moves), before)
+        self.assertIs(type(raised(far_state, device, (3, 0), moves, -1)), InvalidNumber)
+        self.assertIs(type(raised(first_time, device, (3, 0), moves, None)), InvalidNumber)
+        self.assertEqual((device, moves), (((10, [0, 3]), (10, [0])), [7, -6]))
+
+    def test_errors_change_no_later_answer(self):
+        for _ in range(3):
+            self.assertEqual(mean_rise(NARROW, 0, [10, -10]), (15, 2))
+            self.assertIs(type(raised(mean_rise, NARROW, 0, [10, -9])), Impossible)
+            self.assertEqual(span_rows(WIDE, 0), [(10, 10, 1), (20, 20, 1)])
+            self.assertIs(type(raised(span_rows, WIDE, None)), InvalidNumber)
+
+    def test_what_is_just_right(self):
+        self.assertIsNone(raised(far_state, WIDE, (3, 0), [1] * 40, 0))
+        self.assertIsNone(raised(span_rise, WIDE, 0, 1))
+        self.assertIsNone(raised(span_for, WIDE, 0, -GREAT, 1))
+        self.assertIsNone(raised(held_heights, (FULL, (1, [0])), -GREAT))
+
+
+if __name__ == "__main__":
+    unittest.main()
