@@ -6,7 +6,10 @@ import inspect
 import unittest
 
 from tests.helpers import FULL, NARROW, WIDE
-from twocombs.combs import plain_comb
+from twocombs.alike import alike_state, are_alike, parting_moves, plain_device
+from twocombs.best import best_height, best_heights, best_moves, fewest_moves
+from twocombs.combs import is_device, plain_comb
+from twocombs.joining import joining_count, joining_moves, parted_by
 from twocombs.means import held_heights, lasting_heights, mean_rise, stuck_heights
 from twocombs.moving import joined_moves, mirror_device, moved_state, state_trail
 from twocombs.rounds import far_state, first_time
@@ -35,6 +38,19 @@ INTERFACE = {
     "spans": {
         "span_rise": ["device", "hand", "span"], "climbing_span": ["device", "hand"], "span_rows": ["device", "hand"],
         "span_for": ["device", "hand", "top", "bottom"],
+    },
+    "best": {
+        "best_heights": ["device", "state", "reach", "count"], "best_height": ["device", "state", "reach", "count"],
+        "fewest_moves": ["device", "state", "reach", "height"], "best_moves": ["device", "state", "reach", "height"],
+    },
+    "joining": {
+        "joining_round": ["device", "hand", "one", "other", "moves"],
+        "joining_count": ["device", "hand", "one", "other"], "joining_moves": ["device", "hand", "one", "other"],
+        "parted_by": ["device", "hand", "one", "other", "moves"],
+    },
+    "alike": {
+        "are_alike": ["device", "state", "second", "start"], "plain_device": ["device", "state"],
+        "alike_state": ["device", "state"], "parting_moves": ["device", "state", "second", "start"],
     },
 }
 
@@ -66,6 +82,18 @@ CALLS = {
     "climbing_span": [(((3, [0]), (5, [0])), 0), 7],
     "span_rows": [(((10, [0, 3]), (10, [0])), 0), [(10, 10, 1), (20, 20, 1)]],
     "span_for": [(((3, [0]), (5, [0])), 0, 15, 2), 10],
+    "best_heights": [(((3, [0]), (5, [0])), (0, 0), 4, 2), [3, 3, 3, 3, 4]],
+    "best_height": [(((3, [0]), (5, [0])), (0, 0), 7, 5), 17],
+    "fewest_moves": [(((3, [0]), (5, [0])), (0, 0), 7, 8), 3],
+    "best_moves": [(((3, [0]), (5, [0])), (0, 0), 7, 8), [6, -6, 3]],
+    "joining_round": [(((3, [0]), (5, [0])), 0, 0, 3, [7, -7]), 1],
+    "joining_count": [(((3, [0]), (5, [0])), 0, 0, 5), 2],
+    "joining_moves": [(((3, [0]), (5, [0])), 0, 3, 3), []],
+    "parted_by": [(((3, [0]), (5, [0])), 0, 5, 0, [7, -7]), -6],
+    "are_alike": [(((10, [0, 3]), (10, [0])), (0, 0), ((10, [0, 3]), (10, [4])), (0, -4)), True],
+    "plain_device": [(((20, [2, 5, 12, 15]), (5, [0])), (2, 2)), ((10, [0, 3]), (5, [0]))],
+    "alike_state": [(((10, [0, 3]), (10, [0])), (13, 10 ** 30)), (3, 0)],
+    "parting_moves": [(((10, [0, 3]), (10, [0])), (0, 0), ((10, [0, 3]), (5, [0])), (0, 0)), [-5, 1]],
 }
 
 
@@ -174,6 +202,35 @@ class ConventionsTest(unittest.TestCase):
             told[0] = None
             self.assertEqual(call(*given), expected)
 
+    def test_found_moves_and_best_heights_are_new_lists(self):
+        one = (1, [0])
+        for call, given in ((best_heights, (NARROW, (0, 0), 4, 0)), (best_heights, (NARROW, (0, 0), 4, 2)),
+                            (best_moves, (NARROW, (0, 0), 7, 8)), (best_moves, (NARROW, (0, 0), 7, 0)),
+                            (joining_moves, (NARROW, 0, 0, 5)), (joining_moves, (NARROW, 0, 3, 3)),
+                            (parting_moves, (WIDE, (3, 0), WIDE, (0, 0))),
+                            (parting_moves, (WIDE, (0, 0), (WIDE[0], one), (0, 0)))):
+            told = call(*given)
+            expected = list(told)
+            self.assertIsNot(call(*given), told)
+            told.append(99)
+            told[0] = None
+            self.assertEqual(call(*given), expected)
+
+    def test_plain_devices_have_lists_of_their_own(self):
+        teeth = [0, 2]
+        comb = (3, teeth)
+        for device in ((comb, comb), ((3, teeth), (5, teeth)), ((3, [0]), (5, [0])), ((4, teeth), (4, teeth))):
+            before = copy.deepcopy(device)
+            told = plain_device(device, (0, 0))
+            expected = copy.deepcopy(told)
+            again = plain_device(device, (0, 0))
+            lists = [part[1] for part in told + again + device]
+            for at, mine in enumerate(lists[:4]):
+                self.assertFalse([other for other in lists[at + 1:] if other is mine])
+            told[0][1].append(99)
+            self.assertEqual(told[1], expected[1])
+            self.assertEqual((again, plain_device(device, (0, 0)), device), (expected, expected, before))
+
     def test_changed_arguments_change_no_earlier_answer(self):
         teeth, moves = [0], [10, -10]
         device = ((3, teeth), (5, [0]))
@@ -189,6 +246,21 @@ class ConventionsTest(unittest.TestCase):
         self.assertEqual(span_for(NARROW, 0, *span_rise(NARROW, 0, climbing_span(NARROW, 0))), climbing_span(NARROW, 0))
         self.assertEqual(span_for(NARROW, 0, *mean_rise(NARROW, 0, [10, -10])), 10)
         self.assertEqual(held_heights(mirror_device(WIDE), 4), held_heights((WIDE[1], WIDE[0]), 4))
+
+    def test_answers_of_later_parts_are_taken_by_other_functions(self):
+        moves = best_moves(NARROW, (0, 0), 7, 17)
+        self.assertEqual(moved_state(NARROW, (0, 0), moves)[0], best_height(NARROW, (0, 0), 7, len(moves)))
+        self.assertEqual(fewest_moves(NARROW, (0, 0), 7, 17), len(joined_moves(moves)))
+        joined = joining_moves(NARROW, 0, 0, 5)
+        self.assertEqual(parted_by(NARROW, 0, 0, 5, joined), 0)
+        self.assertEqual(joining_count(NARROW, 0, 0, 5), len(joined_moves(joined)))
+        plain = plain_device(WIDE, far_state(WIDE, (0, 0), [7, -7, 5], 10 ** 40))
+        self.assertTrue(are_alike(plain, alike_state(plain, (0, 0)), plain, (0, 0)))
+        self.assertEqual(is_device(plain), True)
+        parting = parting_moves(WIDE, (0, 0), NARROW, (0, 0))
+        trails = [[height for height, _ in state_trail(device, (0, 0), parting)] for device in (WIDE, NARROW)]
+        self.assertEqual(trails[0][:-1], trails[1][:-1])
+        self.assertNotEqual(trails[0], trails[1])
 
     def test_answers_are_taken_by_other_functions(self):
         device = mirror_device((plain_comb(FULL), plain_comb((24, [3, 15]))))

@@ -29,3 +29,10 @@ def check_least(value, least, name):
     check_whole(value, name)
     if value < least:
         raise InvalidNumber(f"{name} is below {least}")
+
+
+def check_between(value, least, greatest, name):
+    """Raise InvalidNumber unless the argument with this name is an integer from the least to the greatest one."""
+    check_least(value, least, name)
+    if value > greatest:
+        raise InvalidNumber(f"{name} is above {greatest}")
