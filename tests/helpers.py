@@ -82,6 +82,17 @@ NO_MOVES = [(value, None) for value in ODD_VALUES if not isinstance(value, list)
     (endless_list(), 0),
 ]
 
+# Each value that is no looks, with the index that InvalidLooks has for it.
+NO_LOOKS = [(value, None) for value in ODD_VALUES if not isinstance(value, list)] + [
+    ((), None), (((1, 1),), None), ([(1, 1)] * 13, None), ([None] * 13, None), ([(1, 0)] * 200, None), ([0], 0),
+    ([(0, 0)], 0), ([(0, 1)], 0), ([(1, 1), (0, 0)], 1), ([[1, 1]], 0), ([(1, 1), [1, 1]], 1), ([()], 0), ([(1,)], 0),
+    ([(1, 1, 1)], 0), ([1, 1], 0), ([(1, 1), 1], 1), ([(True, 1)], 0), ([(1, True)], 0), ([(1, False)], 0),
+    ([(1.0, 1)], 0), ([(1, 1.0)], 0), ([(1, None)], 0), ([(None, 1)], 0), ([("1", 1)], 0), ([(1, "1")], 0),
+    ([((1,), 1)], 0), ([(1, [1])], 0), ([None], 0), (["ab"], 0), ([{1: 1, 2: 2}], 0), ([Odd()], 0), ([(Odd(), 1)], 0),
+    ([(1, Odd())], 0), ([(1, 1)] * 11 + [(0, 1)], 11), ([(1, 1)] * 11 + [None], 11), ([None] + [(1, 1)] * 11, 0),
+    ([(1, 5), (0, 1), None], 1), (endless_list(), 0),
+]
+
 
 def all_combs(pitch):
     """Return every comb with this pitch."""
@@ -96,7 +107,8 @@ def sample_combs():
     combs = []
     for pitch in (1, 2, 3, 4):
         combs.extend(all_combs(pitch))
-    combs.extend([(5, [2, 3]), (7, [0, 1, 5]), (10, [0, 3]), (10, [9]), (12, [1, 3, 5, 7, 9, 11]), (20, [2, 5, 12, 15])])
+    combs.extend([(5, [2, 3]), (7, [0, 1, 5]), (10, [0, 3]), (10, [9]), (12, [1, 3, 5, 7, 9, 11])])
+    combs.extend([(20, [2, 5, 12, 15])])
     combs.extend([(23, [0]), (23, [22]), (23, [1, 8, 9]), (24, [0]), (24, [23]), (24, [5, 6, 17, 18]), FULL])
     return combs
 

@@ -14,6 +14,8 @@ from twocombs.means import held_heights, lasting_heights, mean_rise, stuck_heigh
 from twocombs.moving import joined_moves, mirror_device, moved_state, state_trail
 from twocombs.rounds import far_state, first_time
 from twocombs.spans import climbing_span, span_for, span_rise, span_rows
+from twocombs.texts import parse_device, parse_moves
+from twocombs.told import fitting_starts
 
 INTERFACE = {
     "combs": {
@@ -52,6 +54,22 @@ INTERFACE = {
         "are_alike": ["device", "state", "second", "start"], "plain_device": ["device", "state"],
         "alike_state": ["device", "state"], "parting_moves": ["device", "state", "second", "start"],
     },
+    "told": {
+        "fitting_starts": ["device", "looks"], "clash_index": ["device", "looks"],
+        "sure_rise": ["device", "looks", "move"], "range_of_rises": ["device", "looks", "move"],
+        "telling_move": ["device", "looks"],
+    },
+    "texts": {
+        "format_device": ["device"], "format_moves": ["moves"], "format_state": ["state"], "parse_device": ["text"],
+        "parse_moves": ["text"], "parse_state": ["device", "text"],
+    },
+}
+# For each class its file, the arguments that it takes, its properties, and its methods with their arguments.
+CLASSES = {
+    "LiveBar": ("live", ["device", "state"], ["height", "hand", "device", "rises", "log"],
+                {"move": ["by"], "pump": ["span", "times"], "set_grip": ["comb"], "undo": [], "fork": [],
+                 "__len__": [], "__eq__": ["other"]}),
+    "Console": ("console", [], [], {"execute": ["command"]}),
 }
 
 # Arguments for each function, and what it returns.
@@ -94,6 +112,17 @@ CALLS = {
     "plain_device": [(((20, [2, 5, 12, 15]), (5, [0])), (2, 2)), ((10, [0, 3]), (5, [0]))],
     "alike_state": [(((10, [0, 3]), (10, [0])), (13, 10 ** 30)), (3, 0)],
     "parting_moves": [(((10, [0, 3]), (10, [0])), (0, 0), ((10, [0, 3]), (5, [0])), (0, 0)), [-5, 1]],
+    "fitting_starts": [(((3, [0]), (5, [0])), [(1, 1), (-1, -1)]), [(0, 0), (1, 0)]],
+    "clash_index": [(((3, [0]), (5, [0])), [(4, 1), (-4, -2)]), 1],
+    "sure_rise": [(((3, [0]), (5, [0])), [(4, 1)], -3), -1],
+    "range_of_rises": [(((3, [0]), (5, [0])), [], 9), (5, 9)],
+    "telling_move": [(((3, [0]), (5, [0])), [(1, 1)]), -1],
+    "format_device": [(((10, [0, 3]), (5, [0])),), "10: 0 3 / 5: 0"],
+    "format_moves": [([7, -7],), "7 -7"],
+    "format_state": [((3, -20),), "3 -20"],
+    "parse_device": [("10: 0 3 / 5: 0",), ((10, [0, 3]), (5, [0]))],
+    "parse_moves": [("7 -7",), [7, -7]],
+    "parse_state": [(((10, [0, 3]), (5, [0])), "3 -20"), (3, -20)],
 }
 
 
@@ -119,6 +148,21 @@ class InterfaceTest(unittest.TestCase):
                     self.assertTrue(inspect.isfunction(function))
                     self.assertEqual(function.__module__, "twocombs." + file)
                     self.assertEqual(list(inspect.signature(function).parameters), arguments)
+
+    def test_classes(self):
+        for name, (file, arguments, properties, methods) in CLASSES.items():
+            with self.subTest(name=name):
+                made = getattr(importlib.import_module("twocombs." + file), name)
+                self.assertTrue(inspect.isclass(made))
+                self.assertEqual((made.__module__, made.__bases__), ("twocombs." + file, (object,)))
+                self.assertEqual(list(inspect.signature(made).parameters), arguments)
+                for method, given in methods.items():
+                    self.assertEqual(list(inspect.signature(vars(made)[method]).parameters), ["self"] + given)
+                for told in properties:
+                    self.assertIs(type(vars(made)[told]), property)
+                open_names = [other for other in vars(made) if not other.startswith("_")]
+                self.assertEqual(sorted(open_names), sorted([other for other in list(methods) + properties
+                                                             if not other.startswith("_")]))
 
     def test_by_position_and_by_name(self):
         for name, function, arguments, given, answer in functions():
@@ -230,6 +274,22 @@ class ConventionsTest(unittest.TestCase):
             told[0][1].append(99)
             self.assertEqual(told[1], expected[1])
             self.assertEqual((again, plain_device(device, (0, 0)), device), (expected, expected, before))
+
+    def test_starts_and_read_values_are_new_lists(self):
+        for call, given in ((fitting_starts, (NARROW, [])), (fitting_starts, (NARROW, [(1, 1)])),
+                            (parse_moves, ("7 -7",))):
+            told = call(*given)
+            expected = list(told)
+            self.assertIsNot(call(*given), told)
+            told.append(99)
+            told[0] = None
+            self.assertEqual(call(*given), expected)
+        self.assertIsNot(parse_moves(""), parse_moves(""))
+        one, other = parse_device("4: 0 / 4: 0"), parse_device("4: 0 / 4: 0")
+        lists = [comb[1] for comb in one + other]
+        self.assertEqual(len({id(teeth) for teeth in lists}), 4)
+        lists[0].append(3)
+        self.assertEqual((one[1], other), ((4, [0]), ((4, [0]), (4, [0]))))
 
     def test_changed_arguments_change_no_earlier_answer(self):
         teeth, moves = [0], [10, -10]

@@ -24,6 +24,9 @@ DOUBLE = set("""__init__ __eq__ __repr__ __str__ __len__ __enter__ __exit__ __ca
 BARRED = """register mro elements open input law version_info with_traceback add_note breakpoint builtins compile
     copyright credits delattr dir eval exec exit gc globals help id importlib license locals os quit vars sys
     typing enum Enum Generic Protocol ABC namedtuple NamedTuple TypedDict dataclass""".split()
+METHODS = """append clear copy count endswith extend find get index insert isalnum isalpha isdigit islower isspace
+    isupper items join keys ljust lower lstrip partition pop remove replace reverse rfind rjust rpartition rsplit rstrip
+    setdefault split splitlines startswith strip update upper values zfill bit_length""".split()
 BARRED_NODES = (ast.AsyncFunctionDef, ast.AsyncFor, ast.AsyncWith, ast.Await, ast.Import, ast.Div, ast.MatMult)
 
 
@@ -47,7 +50,8 @@ def bound_names(tree):
     """Return all names that a file gives a meaning to, attributes left out."""
     names = [node.name for node in definitions(tree)]
     names += [node.arg for node in ast.walk(tree) if isinstance(node, ast.arg)]
-    return names + [node.id for node in ast.walk(tree) if isinstance(node, ast.Name) and isinstance(node.ctx, ast.Store)]
+    variables = [node for node in ast.walk(tree) if isinstance(node, ast.Name)]
+    return names + [node.id for node in variables if isinstance(node.ctx, ast.Store)]
 
 
 class LanguageTest(unittest.TestCase):
@@ -130,7 +134,8 @@ class LanguageTest(unittest.TestCase):
         builtins = dir(__import__("builtins"))
         for path, _, tree in sources():
             bound = bound_names(tree)
-            imported = [alias.name for node in ast.walk(tree) if isinstance(node, ast.ImportFrom) for alias in node.names]
+            imports = [node for node in ast.walk(tree) if isinstance(node, ast.ImportFrom)]
+            imported = [alias.name for node in imports for alias in node.names]
             for name in bound:
                 self.assertTrue(name in DOUBLE or not name.startswith("__"), (path, name))
                 self.assertNotIn(name, BARRED, path)
@@ -142,12 +147,38 @@ class LanguageTest(unittest.TestCase):
                 if isinstance(node, ast.Name):
                     self.assertIn(node.id, known, path)
 
-    def test_classes_have_no_decorators(self):
-        # L5
+    def test_decorators(self):
+        # L4, L5
         for path, _, tree in sources():
+            methods = [node for owner in definitions(tree) if isinstance(owner, ast.ClassDef) for node in owner.body]
             for node in definitions(tree):
-                if isinstance(node, ast.ClassDef):
-                    self.assertFalse(node.decorator_list, (path, node.name))
+                told = [ast.unparse(decorator) for decorator in node.decorator_list]
+                self.assertIn(told, [[], ["property"]] if node in methods else [[]], (path, node.name))
+
+    def test_methods_that_are_called(self):
+        # L25
+        own = [node.name for _, _, tree in sources() for node in definitions(tree)]
+        for path, _, tree in sources():
+            for node in ast.walk(tree):
+                if isinstance(node, ast.Call) and isinstance(node.func, ast.Attribute):
+                    self.assertIn(node.func.attr, METHODS + own, (path, node.lineno))
+
+    def test_identity(self):
+        # L20
+        for path, _, tree in sources():
+            for node in ast.walk(tree):
+                if isinstance(node, ast.Compare):
+                    for sign, right in zip(node.ops, node.comparators):
+                        if isinstance(sign, (ast.Is, ast.IsNot)):
+                            self.assertIsInstance(right, ast.Constant, (path, node.lineno))
+
+    def test_handlers(self):
+        # L19
+        own = [node.name for _, _, tree in sources() for node in definitions(tree)]
+        for path, _, tree in sources():
+            for node in ast.walk(tree):
+                if isinstance(node, ast.ExceptHandler):
+                    self.assertIn(ast.unparse(node.type), own, (path, node.lineno))
 
 
 if __name__ == "__main__":

@@ -1,4 +1,4 @@
-"""Wrong arguments of parts 3 to 8: the class of each error, its field, and which argument is told [3], [12] to [20]."""
+"""Wrong arguments of parts 3 to 9: the class of each error, its field, and which argument is told [3], [12] to [22]."""
 
 import copy
 import itertools
@@ -8,12 +8,13 @@ from tests import helpers
 from tests.helpers import FULL, GREAT, NARROW, NO_NUMBERS, WIDE, Odd, raised
 from twocombs.alike import alike_state, are_alike, parting_moves, plain_device
 from twocombs.best import best_height, best_heights, best_moves, fewest_moves
-from twocombs.errors import (CombError, Impossible, InvalidDevice, InvalidHeight, InvalidMoves, InvalidNumber,
-                             InvalidState)
+from twocombs.errors import (CombError, Impossible, InvalidDevice, InvalidHeight, InvalidLooks, InvalidMoves,
+                             InvalidNumber, InvalidState)
 from twocombs.joining import joining_count, joining_moves, joining_round, parted_by
 from twocombs.means import held_heights, lasting_heights, mean_rise, settling_rounds, stuck_heights
 from twocombs.rounds import far_state, first_time, round_cycle
 from twocombs.spans import climbing_span, span_for, span_rise, span_rows
+from twocombs.told import clash_index, fitting_starts, range_of_rises, sure_rise, telling_move
 
 FUNCTIONS = {
     far_state: ["device", "state", "moves", "times"],
@@ -40,10 +41,16 @@ FUNCTIONS = {
     plain_device: ["device", "state"],
     alike_state: ["device", "state"],
     parting_moves: ["device", "state", "second", "start"],
+    fitting_starts: ["device", "looks"],
+    clash_index: ["device", "looks"],
+    sure_rise: ["device", "looks", "move"],
+    range_of_rises: ["device", "looks", "move"],
+    telling_move: ["device", "looks"],
 }
 RIGHT = {"device": WIDE, "state": (3, 0), "moves": [2, -3], "round": [7, -7], "hand": -4, "times": 3, "height": 9,
          "span": 7, "top": 3, "bottom": 2, "reach": 5, "count": 4, "small": NARROW, "one": 6,
-         "second": ((4, [1]), (6, [0, 2])), "start": (1, 0)}
+         "second": ((4, [1]), (6, [0, 2])), "start": (1, 0),
+         "looks": [(2, 1), (-3, -1)], "move": -4}
 
 NUMBERS = [(value, InvalidNumber, {}) for value in NO_NUMBERS]
 BELOW_ONE = [(value, InvalidNumber, {}) for value in (0, -1, -2, -GREAT)]
@@ -71,6 +78,8 @@ WRONG = {
     "one": [(value, InvalidHeight, {}) for value in NO_NUMBERS + [(6, 0), 4, 7, -1, 8, 6.0, GREAT - 4]],
     "start": [(value, InvalidState, {}) for value in helpers.NO_WHOLE_PAIRS]
     + [(value, InvalidState, {}) for value in ((3, 0), (0, 1), (2, 1), (-1, 0), (1.0, 0), [1, 0], (GREAT, 0))],
+    "looks": [(value, InvalidLooks, {"index": index}) for value, index in helpers.NO_LOOKS],
+    "move": NUMBERS + BELOW_ONE[:1],
 }
 WRONG["second"] = WRONG["device"]
 WRONG["small"] = WRONG["device"] + [
@@ -98,10 +107,14 @@ FEW = {
     "count": [(None, InvalidNumber, {}), (-1, InvalidNumber, {}), (201, InvalidNumber, {})],
     "one": [(None, InvalidHeight, {}), (7, InvalidHeight, {}), (True, InvalidHeight, {})],
     "start": [(None, InvalidState, {}), ((3, 0), InvalidState, {})],
+    "looks": [(None, InvalidLooks, {"index": None}), ([(2, 1), (0, 1)], InvalidLooks, {"index": 1}),
+              ([(2, 9), [2, 1]], InvalidLooks, {"index": 1})],
+    "move": [(None, InvalidNumber, {}), (0, InvalidNumber, {}), (True, InvalidNumber, {})],
 }
 FEW["second"] = FEW["device"]
 FEW["small"] = [(None, InvalidDevice, {"index": None}), (((9, [0]), (5, [0])), InvalidDevice, {"index": 0}),
-                (((9, [0]), (25, [0])), InvalidDevice, {"index": 1}), (((3, [0]), (9, [0])), InvalidDevice, {"index": 1})]
+                (((9, [0]), (25, [0])), InvalidDevice, {"index": 1}),
+                (((3, [0]), (9, [0])), InvalidDevice, {"index": 1})]
 
 
 class WrongTest(unittest.TestCase):
@@ -213,6 +226,21 @@ class WrongTest(unittest.TestCase):
             self.assertIsNone(raised(call, NARROW, (5, 0), WIDE, (13, 0)))
             self.assertEqual(raised(call, WIDE, (3, 0), (WIDE[0], None), (4, 0)).index, 1)
             self.assertIs(type(raised(call, WIDE, (4, 0), (WIDE[0], None), (4, 0))), InvalidState)
+
+    def test_looks_that_no_start_fits_are_told_behind_all_others(self):
+        looks = [(4, 5)]
+        for call, others in ((sure_rise, [1]), (range_of_rises, [1]), (telling_move, [])):
+            self.assertIs(type(raised(call, NARROW, looks, *others)), Impossible)
+            self.assertIs(type(raised(call, NARROW, [(4, 1), (-4, -2)], *others)), Impossible)
+            self.assertIs(type(raised(call, NARROW, [(1, 0)] * 11 + [(GREAT, 0)], *others)), Impossible)
+            self.assertEqual(raised(call, NARROW, looks + [(1, True)], *others).index, 1)
+            self.assertEqual(raised(call, NARROW, looks * 13, *others).index, None)
+            self.assertEqual(raised(call, (NARROW[0], None), looks, *others).index, 1)
+        for call in (sure_rise, range_of_rises):
+            for move in NO_NUMBERS + [0]:
+                self.assertIs(type(raised(call, NARROW, looks, move)), InvalidNumber)
+        for call in (fitting_starts, clash_index):
+            self.assertIsNone(raised(call, NARROW, looks))
 
     def test_arguments_are_as_they_were_behind_errors(self):
         device, moves = ((10, [0, 3]), (10, [0])), [7, -6]

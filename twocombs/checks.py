@@ -31,6 +31,13 @@ def check_least(value, least, name):
         raise InvalidNumber(f"{name} is below {least}")
 
 
+def check_step(value, name):
+    """Raise InvalidNumber unless the argument with this name is an integer other than 0."""
+    check_whole(value, name)
+    if value == 0:
+        raise InvalidNumber(f"{name} is 0")
+
+
 def check_between(value, least, greatest, name):
     """Raise InvalidNumber unless the argument with this name is an integer from the least to the greatest one."""
     check_least(value, least, name)
